@@ -1,0 +1,1 @@
+"""Sparsesum: numbers as sums of members without neighbours."""
