@@ -4,6 +4,7 @@ import collections
 import decimal
 import enum
 import fractions
+import itertools
 
 
 class Stubborn:
@@ -121,3 +122,149 @@ def member_by_doubling(place):
 
 def number_by_doubling(form):
     return sum(member_by_doubling(place) for place in form)
+
+
+def broken_texts():
+    """Texts that no form is written as, each for a reason of its own."""
+    return [
+        "",
+        # a 0 ahead
+        "00", "01", "010", "001", "0010", "000", "0" * 1000, "0" + "10" * 499,
+        # two 1 side by side
+        "11", "110", "011", "1011", "10110", "1101", "111", "100011", "1" * 1000, "10" * 499 + "11", "11" + "01" * 499,
+        # another sign
+        "2", "12", "102", "1O1", "l0", "I", "O", "a", "1a", "abc", "3", "740", "10" * 499 + "12", "10" * 499 + "1x",
+        "-1", "-0", "+1", "+0", "1.0", "1_0", "0b1", "0x1", "1,0", "[7, 4, 0]", "None", "True",
+        " ", " 1", "1 ", "1 0", " 0", "0 ", "\n", "1\n", "0\n", "10\n", "\n1", "1\n0", "\t1", "1\r", "0\r\n", "\x00",
+        "1\x00", "0\x00", "\x0010",
+        # signs that look like digits or count as such elsewhere
+        "\u0661", "1\u0660", "\uff11", "\uff11\uff10", "1\u00b2", "\u00b9", "1\u0300", "\ufeff1", "1\u200b", "\ud800",
+        "1\U0001d7ce", "\u2460",
+    ]
+
+
+def no_texts():
+    """Things of many kinds that are no written forms."""
+    others = [thing for thing in other_kinds() if not isinstance(thing, str)]
+    things = [0, 1, 10, 10010001, -1, 10 ** 5000, True, False, b"0", b"1", b"10010001", bytearray(b"10")]
+    lists = [[], ["1"], ["1", "0"], [7, 4, 0], ["10010001"], ("1", "0"), {"1": "0"}, {"1"}]
+    return broken_texts() + things + lists + others
+
+
+def spread(seed, many, bound):
+    """So many whole numbers below a bound, always the same ones for the same seed."""
+    found = []
+    state = seed
+    for _ in range(many):
+        state = (state * 6364136223846793005 + 1442695040888963407) % 2 ** 64
+        found.append((state >> 33) % bound)
+    return found
+
+
+def small_heaps():
+    """All heaps of up to five marks at places up to 4, but for the order of their marks."""
+    return [
+        list(marks) for many in range(6) for marks in itertools.combinations_with_replacement(range(5), many)
+    ]
+
+
+def mixed_heaps():
+    """Heaps of up to a hundred marks, in no order."""
+    found = []
+    for seed in range(40):
+        found.append(spread(seed, 5 + 2 * seed, 3 + 2 * seed))
+    for bound in (1, 2, 3, 5, 10, 30, 100, 1000):
+        found.append(spread(bound, 100, bound))
+    return found
+
+
+def full_heaps():
+    """Heaps of a hundred marks."""
+    return [
+        [0] * 100, [1] * 100, [2] * 100, [3] * 100, [7] * 100, [500] * 100, [999] * 100, [999, 0] * 50, [998, 999] * 50,
+        [0, 1] * 50, [1, 0, 2, 3] * 25, list(range(100)), list(range(999, 899, -1)), list(range(0, 1000, 10)),
+        list(range(50)) * 2, list(range(0, 100, 2)) + list(range(98, -2, -2)), list(range(900, 1000, 4)) * 4,
+    ]
+
+
+def number_of_heap(heap):
+    return sum(many * member_by_doubling(place) for place, many in collections.Counter(heap).items())
+
+
+def weight_of_heap(heap):
+    return sum(6 + 3 * place for place in heap) - heap.count(0)
+
+
+def sparse_form(number):
+    """The form of a number, found by trying each place from above."""
+    form, place = [], 0
+    while member_by_doubling(place) <= number:
+        place = place + 1
+    for place in range(place, -1, -1):
+        if member_by_doubling(place) <= number:
+            form.append(place)
+            number = number - member_by_doubling(place)
+    return form
+
+
+def swap(marks, go, come):
+    """Changes a Counter of marks; fails where a mark that goes is not there."""
+    marks.subtract(go)
+    if any(marks[place] < 0 for place in go):
+        raise AssertionError("%r can't go" % (go,))
+    marks.update(come)
+
+
+def go_and_come(step):
+    word, place = step
+    if word == "join":
+        return [place, place + 1], [place + 2]
+    if word != "split":
+        raise AssertionError("%r is no word" % (word,))
+    if place == 0:
+        return [0, 0], [1]
+    if place == 1:
+        return [1, 1], [2, 0]
+    return [place, place], [place + 1, place - 2]
+
+
+def walk_steps(heap, row):
+    """The heap behind a row of steps, falling; fails where one of them can't be done."""
+    marks = collections.Counter(heap)
+    for step in row:
+        swap(marks, *go_and_come(step))
+    return sorted(marks.elements(), reverse=True)
+
+
+def walk_places(heap, places):
+    """The heap behind the marks at a row of places opened, falling; fails where one of them can't be."""
+    marks = collections.Counter(heap)
+    for place in places:
+        if place < 1:
+            raise AssertionError("a mark at %r can't be opened" % (place,))
+        swap(marks, [place], [0, 0] if place == 1 else [place - 1, place - 2])
+    return sorted(marks.elements(), reverse=True)
+
+
+def steps_tried(heap):
+    """The steps of a heap, or of a Counter of its marks, found by trying each at each place."""
+    marks = {place: many for place, many in collections.Counter(heap).items() if many}
+    found = []
+    for place in range(min(marks, default=0), max(marks, default=0) + 1):
+        if marks.get(place, 0) > 1:
+            found.append(("split", place))
+        if marks.get(place, 0) > 0 and marks.get(place + 1, 0) > 0:
+            found.append(("join", place))
+    return found
+
+
+def walk_by(heap, choose):
+    """The row of steps that choose tells, each from the steps that can be done and how many were done already."""
+    marks = collections.Counter(heap)
+    row = []
+    found = steps_tried(marks)
+    while found:
+        row.append(choose(found, len(row)))
+        swap(marks, *go_and_come(row[-1]))
+        found = steps_tried(marks)
+    return row

@@ -93,6 +93,16 @@ class LanguageTest(unittest.TestCase):
                 self.assertEqual(len(node.generators), 1, where)
                 self.assertLessEqual(len(node.generators[0].ifs), 1, where)
 
+    def test_plain_parameters_loops_and_comparisons(self):
+        for name, node in nodes():
+            where = (name, ast.dump(node)[:80])
+            if isinstance(node, ast.arguments):
+                self.assertEqual((node.vararg, node.kwarg, node.kwonlyargs, node.posonlyargs), (None, None, [], []), where)
+            if isinstance(node, (ast.For, ast.While)):
+                self.assertEqual(node.orelse, [], where)
+            if isinstance(node, ast.Compare) and any(isinstance(sign, (ast.Is, ast.IsNot)) for sign in node.ops):
+                self.assertIn(ast.unparse(node.comparators[-1]), ("None", "True", "False"), where)
+
     def test_imports_are_of_the_package_alone(self):
         for name, node in nodes():
             if isinstance(node, ast.ImportFrom):
